@@ -1,0 +1,1 @@
+"""Countveil: a house of counts."""
