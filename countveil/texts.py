@@ -76,8 +76,9 @@ def read_codes(line, begin):
     return (tuple(codes), at)
 
 
-def read_sort(line, names):
-    """The sort of a line, its name none of the names ahead, and where the line breaks off."""
+def read_sort(line, ahead):
+    """The sort of a line, its name that of no sort ahead, and where the line breaks off."""
+    names = [sort[0] for sort in ahead]
     at = word_end(line, 0, MOST_NAME, names)
     name = line[:at]
     if not is_free(name, names) or line[at:at + 1] != ":":
@@ -142,32 +143,27 @@ def read_record_line(plan, line):
     return ((*things, measure), at + far)
 
 
-def read_records(plan, text, most):
-    """The records of a text with a line for each, at most so many."""
-    records = []
+def read_lines(text, most, read_line):
+    """What the lines write, at most so many; read_line gets each line and what those ahead of it write."""
+    things = []
     for row, line in enumerate(text.split("\n")):
         if row == most:
             raise NoText(row, 0)
-        record, at = read_record_line(plan, line)
-        if record is None:
+        thing, at = read_line(line, things)
+        if thing is None:
             raise NoText(row, at)
-        records.append(record)
-    return records
+        things.append(thing)
+    return things
+
+
+def read_records(plan, text, most):
+    """The records of a text with a line for each, at most so many."""
+    return read_lines(text, most, lambda line, ahead: read_record_line(plan, line))
 
 
 def read_plan(text):
     """The plan that the text writes."""
-    sorts = []
-    names = []
-    for row, line in enumerate(text.split("\n")):
-        if row == MOST_SORTS:
-            raise NoText(row, 0)
-        sort, at = read_sort(line, names)
-        if sort is None:
-            raise NoText(row, at)
-        sorts.append(sort)
-        names.append(sort[0])
-    return tuple(sorts)
+    return tuple(read_lines(text, MOST_SORTS, read_sort))
 
 
 def read_record(plan, text):
