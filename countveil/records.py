@@ -28,6 +28,16 @@ def wrong_in_record(plan, thing):
     return None
 
 
+def is_record(plan, thing):
+    """Whether it is a record of what is known to be a plan."""
+    return wrong_in_record(plan, thing) is None
+
+
+def is_full(record):
+    """Whether no answer of the record is missing."""
+    return None not in record
+
+
 def wrong_in_book(plan, thing):
     """What book_wrong tells, of what is known to be a plan."""
     if not isinstance(thing, list) or len(thing) > MOST_RECORDS:
@@ -48,7 +58,7 @@ def are_codes(plan, thing):
 
 def need_record(plan, record):
     """Refuse what is no record of what is known to be a plan."""
-    if wrong_in_record(plan, record) is not None:
+    if not is_record(plan, record):
         raise NoRecord("this is no record of the plan")
 
 

@@ -25,7 +25,26 @@ FUNCTIONS = {
         "read_record": ["plan", "text"],
         "read_book": ["plan", "text"],
     },
+    "rules": {"rules_wrong": ["plan", "thing"], "barred_by": ["plan", "rules", "record"]},
+    "mends": {
+        "mend": ["plan", "rules", "costs", "record"],
+        "mend_judged": ["plan", "rules", "costs", "record", "thing"],
+    },
+    "donors": {
+        "fillings": ["plan", "rules", "costs", "book"],
+        "filled": ["plan", "rules", "costs", "book"],
+        "fillings_judged": ["plan", "rules", "costs", "book", "thing"],
+    },
+    "weighing": {
+        "known_wrong": ["plan", "thing"],
+        "weights": ["plan", "book", "known"],
+        "multipliers": ["plan", "book", "known"],
+        "weights_judged": ["plan", "book", "known", "thing"],
+        "weights_barred": ["plan", "book", "known"],
+        "bar_judged": ["plan", "book", "known", "thing"],
+    },
 }
+CONSTANTS = {"rules": {"MOST_RULES": 20}}
 
 
 class Interface(unittest.TestCase):
@@ -38,6 +57,14 @@ class Interface(unittest.TestCase):
                 for parameter in parameters.values():
                     self.assertEqual(parameter.kind, inspect.Parameter.POSITIONAL_OR_KEYWORD, function)
                     self.assertIs(parameter.default, inspect.Parameter.empty, function)
+
+    def test_numbers(self):
+        for name, constants in CONSTANTS.items():
+            module = importlib.import_module(f"countveil.{name}")
+            for constant, number in constants.items():
+                self.assertEqual(repr(getattr(module, constant)), repr(number), constant)
+                text = (PACKAGE / f"{name}.py").read_text()
+                self.assertTrue(re.search(rf"^{constant} = ", text, re.MULTILINE), constant)
 
     def test_each_is_defined_in_its_file(self):
         for name, functions in FUNCTIONS.items():

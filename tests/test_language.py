@@ -30,6 +30,8 @@ BARRED_WORDS = re.compile(
     r"\b(type|typing|typing_extensions|enum|Enum|IntEnum|StrEnum|Flag|IntFlag|Generic|Protocol|ABC|ABCMeta|namedtuple|"
     r"NamedTuple|TypedDict|TYPE_CHECKING|abstractmethod)\b|dataclass|overload|contextmanager"
 )
+TAKING_GENERATORS = ["list", "tuple", "dict", "sorted", "sum", "min", "max", "any", "all", "join"]
+ITERATED = ["zip", "enumerate", "reversed", "range"]
 BARRED_NAMES = set("register mro elements open input law version_info with_traceback add_note args".split())
 BARRED_NODES = (
     ast.Import, ast.Global, ast.AsyncFunctionDef, ast.AsyncFor, ast.AsyncWith, ast.Await, ast.Div, ast.MatMult,
@@ -168,6 +170,36 @@ class Expressions(unittest.TestCase):
             for node in ast.walk(tree):
                 if isinstance(node, ast.Name) and node.id not in own:
                     self.assertIn(node.id, BUILTINS, (name, node.lineno))
+
+    def test_generators_stand_in_calls_that_take_them(self):
+        for name, node in nodes():
+            inner = [child for child in ast.iter_child_nodes(node) if isinstance(child, ast.GeneratorExp)]
+            if inner:
+                self.assertIsInstance(node, ast.Call, (name, node.lineno))
+                called = node.func.id if isinstance(node.func, ast.Name) else node.func.attr
+                self.assertIn(called, TAKING_GENERATORS, (name, node.lineno))
+
+    def test_what_is_iterated_is_not_stored(self):
+        for name, node in nodes():
+            for child in ast.iter_child_nodes(node):
+                if isinstance(child, ast.Call) and isinstance(child.func, ast.Name) and child.func.id in ITERATED:
+                    fits = isinstance(node, (ast.For, ast.comprehension))
+                    fits = fits or isinstance(node, ast.Call) and node.func.id in TAKING_GENERATORS + ITERATED
+                    self.assertTrue(fits, (name, child.lineno))
+
+    def test_sets_stand_where_they_may(self):
+        for name, node in nodes():
+            for child in ast.iter_child_nodes(node):
+                if isinstance(child, (ast.SetComp, ast.Set)):
+                    self.assertIsInstance(node, (ast.Compare, ast.Call), (name, child.lineno))
+                if isinstance(child, ast.Call) and isinstance(child.func, ast.Name) and child.func.id == "set":
+                    self.assertIsInstance(node, (ast.Compare, ast.Call), (name, child.lineno))
+
+    def test_defaults_are_plain(self):
+        for name, node in nodes():
+            if isinstance(node, ast.arguments):
+                for default in [*node.defaults, *node.kw_defaults]:
+                    self.assertIsInstance(default, (ast.Constant, ast.Name, type(None)), name)
 
     def test_methods(self):
         own = {node.name for name, node in nodes() if isinstance(node, ast.FunctionDef)}

@@ -4,50 +4,9 @@ import unittest
 
 from countveil.errors import NoText
 from countveil.kinds import is_whole
-from countveil.plans import plan_wrong
-from countveil.records import book_wrong, fitting, gaps, record_wrong, tallies
-from countveil.texts import book_text, plan_text, read_book, read_plan, read_record, record_text
-from tests.samples import ANYTHING, PLAN, holds_truth, lists_in, refusal, spoil, unchanged
-
-RECORD = ("f", None, "n", 1)
-GAPS_ALL = (None, None, None, 0)
-BAD_SORT = (("sex", ("f", "m")), ("age", ("o",)))
-TWICE = (("sex", ("f", "m")), ("sex", ("o", "y")))
-
-
-def book():
-    """A book of one's own."""
-    return [("f", "old", "n", 1), RECORD, GAPS_ALL, ("m", "y", None, 10 ** 6)]
-
-
-CALLS = (
-    (plan_wrong, lambda: (PLAN,)),
-    (plan_wrong, lambda: (BAD_SORT,)),
-    (plan_wrong, lambda: (TWICE,)),
-    (plan_wrong, lambda: ([list(sort) for sort in PLAN],)),
-    (plan_wrong, lambda: ((("sex", ["f", "m"]),),)),
-    (record_wrong, lambda: (PLAN, RECORD)),
-    (record_wrong, lambda: (PLAN, list(RECORD))),
-    (record_wrong, lambda: (PLAN, ("f", "x", "n", 1))),
-    (record_wrong, lambda: (PLAN, ("f", ["old"], "n", 1))),
-    (record_wrong, lambda: (PLAN, ("f", "old", "n", True))),
-    (book_wrong, lambda: (PLAN, book())),
-    (book_wrong, lambda: (PLAN, [RECORD, ("f", "x", "n", 1)])),
-    (book_wrong, lambda: (PLAN, [RECORD, list(RECORD)])),
-    (gaps, lambda: (PLAN, RECORD)),
-    (gaps, lambda: (PLAN, GAPS_ALL)),
-    (tallies, lambda: (PLAN, book())),
-    (tallies, lambda: (PLAN, [])),
-    (fitting, lambda: (PLAN, book(), ("f", None, None))),
-    (fitting, lambda: (PLAN, book(), (None, None, None))),
-    (plan_text, lambda: (PLAN,)),
-    (record_text, lambda: (PLAN, RECORD)),
-    (book_text, lambda: (PLAN, book())),
-    (read_plan, lambda: (plan_text(PLAN),)),
-    (read_record, lambda: (PLAN, "f - n 1")),
-    (read_book, lambda: (PLAN, "f - n 1\n- - - 0")),
-    (read_book, lambda: (PLAN, "")),
-)
+from countveil.texts import read_book, read_plan, read_record
+from tests.calls import ANYTHING_CALLS, CALLS
+from tests.samples import ANYTHING, PLAN, holds_truth, lists_in, refusal, refused_with, spoil, unchanged
 
 
 class WholeNumbers(unittest.TestCase):
@@ -69,15 +28,25 @@ class EveryCall(unittest.TestCase):
         for call, things in CALLS:
             self.assertTrue(unchanged(call, *things()), call)
 
-    def test_refused_things_are_as_ahead(self):
-        for thing in ANYTHING:
-            self.assertTrue(unchanged(plan_wrong, thing))
-            self.assertTrue(unchanged(plan_text, thing))
-            for call in (record_wrong, book_wrong, gaps, tallies, record_text, book_text):
-                self.assertTrue(unchanged(call, PLAN, thing), call)
-                self.assertTrue(unchanged(call, thing, book()), call)
-            self.assertTrue(unchanged(fitting, PLAN, thing, thing))
-            self.assertTrue(unchanged(fitting, PLAN, book(), thing))
+    def test_anything_in_any_place_is_as_ahead(self):
+        for call, things in ANYTHING_CALLS:
+            for n in range(len(things())):
+                for thing in ANYTHING:
+                    handed = list(things())
+                    handed[n] = thing
+                    self.assertTrue(unchanged(call, *handed), (call, n, thing))
+
+    def test_whatever_stands_behind_what_is_refused(self):
+        for call, things in ANYTHING_CALLS:
+            for n in range(len(things())):
+                for thing in (None, 7, [None], ((),)):
+                    handed = list(things())
+                    handed[n] = thing
+                    refused = refusal(call, *handed)
+                    if refused is not None:
+                        for behind in ANYTHING:
+                            handed[n + 1:] = [behind] * (len(handed) - n - 1)
+                            self.assertEqual(refused_with(call, *handed), refused.__class__, (call, n, behind))
 
     def test_of_the_same_the_same_is_told(self):
         for call, things in CALLS:
