@@ -1,7 +1,7 @@
 """Books filled from donors: what is to be changed in a record is taken from the nearest record that gives."""
 
 from countveil.errors import NoRight
-from countveil.kinds import is_whole
+from countveil.kinds import is_list_of, is_tuple_of, is_whole
 from countveil.mends import cost_beside, least_codes, need_costs
 from countveil.records import is_full, need_book
 from countveil.rules import is_right, right_codes
@@ -80,9 +80,7 @@ def filled(plan, rules, costs, book):
 
 def is_filling_by_form(thing):
     """Whether it is the tuple of a filling, its place any whole number."""
-    if not isinstance(thing, tuple):
-        return False
-    if len(thing) == 2:
+    if is_tuple_of(thing, 2):
         return thing[0] == "donor" and is_whole(thing[1])
     return thing == OWN or thing == MENDED
 
@@ -90,7 +88,7 @@ def is_filling_by_form(thing):
 def fillings_judged(plan, rules, costs, book, thing):
     """None where they are the fillings of the book, else the first that is wrong with them."""
     told = fillings(plan, rules, costs, book)
-    if not isinstance(thing, list) or len(thing) != len(told):
+    if not is_list_of(thing, len(told)):
         return ("form",)
     if not all(is_filling_by_form(filling) for filling in thing):
         return ("form",)

@@ -1,4 +1,4 @@
-"""What kind of thing something is: whole numbers and words of small letters."""
+"""What kind of thing something is: whole numbers, words of small letters, tuples and lists of so many."""
 
 
 def is_whole(thing):
@@ -21,3 +21,23 @@ def is_word(thing, most):
     if not isinstance(thing, str) or not 1 <= len(thing) <= most:
         return False
     return all(is_small_letter(sign) for sign in thing)
+
+
+def is_tuple_of(thing, many):
+    """Whether it is a tuple of so many things."""
+    return isinstance(thing, tuple) and len(thing) == many
+
+
+def is_list_of(thing, many):
+    """Whether it is a list of so many things."""
+    return isinstance(thing, list) and len(thing) == many
+
+
+def are_whole_numbers(thing):
+    """Whether it is a list of whole numbers."""
+    return isinstance(thing, list) and all(is_whole(number) for number in thing)
+
+
+def is_list_of_pairs(thing):
+    """Whether it is a list of tuples of two."""
+    return isinstance(thing, list) and all(is_tuple_of(pair, 2) for pair in thing)

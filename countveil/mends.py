@@ -1,7 +1,7 @@
 """Mends: a right full record that changes least of another one, and a tree that shows it."""
 
 from countveil.errors import NoCosts
-from countveil.kinds import is_whole, is_whole_within
+from countveil.kinds import is_tuple_of, is_whole, is_whole_within
 from countveil.plans import need_plan
 from countveil.records import is_full, is_record, need_record
 from countveil.rules import bars, first_barring, is_right, need_rules, right_codes
@@ -12,9 +12,7 @@ MOST_COST = 1000
 
 def are_costs(plan, thing):
     """Whether they are costs of what is known to be a plan."""
-    if not isinstance(thing, tuple) or len(thing) != len(plan):
-        return False
-    return all(is_whole_within(cost, LEAST_COST, MOST_COST) for cost in thing)
+    return is_tuple_of(thing, len(plan)) and all(is_whole_within(cost, LEAST_COST, MOST_COST) for cost in thing)
 
 
 def need_costs(plan, rules, costs):
@@ -94,7 +92,7 @@ def is_tree_by_form(thing):
 
 def is_mend_by_form(thing):
     """Whether it is a tuple of three, the first None or a whole number, the third a tree by its form."""
-    if not isinstance(thing, tuple) or len(thing) != 3:
+    if not is_tuple_of(thing, 3):
         return False
     cost, mended, tree = thing
     return (cost is None or is_whole(cost)) and is_tree_by_form(tree)
@@ -102,8 +100,8 @@ def is_mend_by_form(thing):
 
 def is_mended(plan, rules, costs, record, cost, mended):
     """Whether it is a right full record with the record's measure, whose cost is told, or both are None."""
-    if cost is None or mended is None:
-        return cost is None and mended is None
+    if cost is None:
+        return mended is None
     if not is_record(plan, mended) or not is_full(mended) or mended[-1] != record[-1]:
         return False
     return is_right(rules, mended) and cost_beside(costs, mended, record) == cost

@@ -1,7 +1,7 @@
 """Plans: which sorts of answers there are, and the codes of each."""
 
 from countveil.errors import NoPlan
-from countveil.kinds import is_word
+from countveil.kinds import is_tuple_of, is_word
 
 MOST_SORTS = 4
 LEAST_CODES = 2
@@ -28,7 +28,7 @@ def are_unlike_codes(things):
 
 def is_sort(thing):
     """Whether it is a sort, whatever the names of other sorts are."""
-    if not isinstance(thing, tuple) or len(thing) != 2:
+    if not is_tuple_of(thing, 2):
         return False
     name, codes = thing
     if not is_name(name) or not isinstance(codes, tuple):

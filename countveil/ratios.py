@@ -1,6 +1,6 @@
 """Fractions: tuples (top, bottom) of two whole numbers in lowest numbers, the bottom from 1 on."""
 
-from countveil.kinds import is_whole
+from countveil.kinds import is_list_of, is_tuple_of, is_whole
 
 NOUGHT = (0, 1)
 
@@ -22,7 +22,7 @@ def fraction(top, bottom):
 
 def is_fraction(thing):
     """Whether it is a fraction."""
-    if not isinstance(thing, tuple) or len(thing) != 2:
+    if not is_tuple_of(thing, 2):
         return False
     top, bottom = thing
     if not is_whole(top) or not is_whole(bottom) or bottom < 1:
@@ -32,9 +32,7 @@ def is_fraction(thing):
 
 def are_fractions(thing, many):
     """Whether it is a list of so many fractions."""
-    if not isinstance(thing, list) or len(thing) != many:
-        return False
-    return all(is_fraction(each) for each in thing)
+    return is_list_of(thing, many) and all(is_fraction(each) for each in thing)
 
 
 def sum_of(fractions):

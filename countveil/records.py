@@ -1,7 +1,7 @@
 """Records of a plan, and books of records."""
 
 from countveil.errors import NoBook, NoCodes, NoRecord
-from countveil.kinds import is_whole_within
+from countveil.kinds import is_tuple_of, is_whole_within
 from countveil.plans import need_plan
 
 MOST_MEASURE = 10 ** 6
@@ -18,7 +18,7 @@ def first_no_code(plan, things):
 
 def wrong_in_record(plan, thing):
     """What record_wrong tells, of what is known to be a plan."""
-    if not isinstance(thing, tuple) or len(thing) != len(plan) + 1:
+    if not is_tuple_of(thing, len(plan) + 1):
         return ("record",)
     k = first_no_code(plan, thing)
     if k is not None:
@@ -51,7 +51,7 @@ def wrong_in_book(plan, thing):
 
 def are_codes(plan, thing):
     """Whether it is a tuple of a code of the sort, or None, for each sort."""
-    if not isinstance(thing, tuple) or len(thing) != len(plan):
+    if not is_tuple_of(thing, len(plan)):
         return False
     return first_no_code(plan, thing) is None
 

@@ -1,6 +1,7 @@
 """Rules of a plan: which codes bar a record."""
 
 from countveil.errors import NoRules
+from countveil.kinds import is_tuple_of
 from countveil.plans import need_plan
 from countveil.records import need_record
 
@@ -17,7 +18,7 @@ def are_unlike_codes_of(codes, thing):
 
 def is_rule(plan, thing):
     """Whether it is a rule of what is known to be a plan."""
-    if not isinstance(thing, tuple) or len(thing) != len(plan):
+    if not is_tuple_of(thing, len(plan)):
         return False
     asked = [(sort[1], codes) for sort, codes in zip(plan, thing) if codes is not None]
     return len(asked) > 0 and all(are_unlike_codes_of(known, codes) for known, codes in asked)

@@ -1,7 +1,7 @@
 """Weights of a book that meet known totals exactly and lie nearest to 1, or a bar where none meet them."""
 
 from countveil.errors import NoKnown
-from countveil.kinds import is_whole_within
+from countveil.kinds import is_list_of_pairs, is_tuple_of, is_whole_within
 from countveil.plans import need_plan
 from countveil.ratios import NOUGHT, are_fractions, mixed, sum_of
 from countveil.records import need_book
@@ -14,22 +14,15 @@ BEGINNING_WEIGHT = (1, 1)
 
 def is_margin(plan, thing):
     """Whether it is a margin of what is known to be a plan."""
-    if not isinstance(thing, tuple) or len(thing) != 2:
+    if not is_tuple_of(thing, 2):
         return False
     s, code = thing
     return is_whole_within(s, 0, len(plan) - 1) and code in plan[s][1]
 
 
-def is_list_of_pairs(thing):
-    """Whether it is a list of one to eight tuples of two."""
-    if not isinstance(thing, list) or not 1 <= len(thing) <= MOST_KNOWN:
-        return False
-    return all(isinstance(pair, tuple) and len(pair) == 2 for pair in thing)
-
-
 def wrong_in_known(plan, thing):
     """What known_wrong tells, of what is known to be a plan."""
-    if not is_list_of_pairs(thing):
+    if not is_list_of_pairs(thing) or not 1 <= len(thing) <= MOST_KNOWN:
         return ("known",)
     ahead = []
     for k, (margin, total) in enumerate(thing):
@@ -102,7 +95,7 @@ def multipliers(plan, book, known):
 
 def are_weights_by_form(book, known, thing):
     """Whether it is a tuple of a list of a fraction for each record and one of one for each known total."""
-    if not isinstance(thing, tuple) or len(thing) != 2:
+    if not is_tuple_of(thing, 2):
         return False
     return are_fractions(thing[0], len(book)) and are_fractions(thing[1], len(known))
 

@@ -1,10 +1,14 @@
 """Calls of every function, with things of one's own each time."""
 
+from countveil.counting import layers, table_of, weighed_cells
 from countveil.donors import filled, fillings, fillings_judged
 from countveil.mends import mend, mend_judged
+from countveil.patterns import fewest, pattern, safe_judged, safe_paper, safe_wrong
 from countveil.plans import plan_wrong
 from countveil.records import book_wrong, fitting, gaps, record_wrong, tallies
 from countveil.rules import barred_by, rules_wrong
+from countveil.spans import sheet_wrong, span, span_judged, span_paper, spans, world_judged
+from countveil.tables import added, put_together, table_wrong, totals, turned_table
 from countveil.texts import book_text, plan_text, read_book, read_plan, read_record, record_text
 from countveil.weighing import bar_judged, known_wrong, multipliers, weights, weights_barred, weights_judged
 from tests.samples import PLAN
@@ -43,6 +47,34 @@ def not_met():
 
 def both_weights():
     return (weights(PLAN, book(), known()), multipliers(PLAN, book(), known()))
+
+
+def table():
+    """A table of one's own."""
+    return (["n", "s"], ["old", "mid", "y"], [[1, 2, 3], [4, 5, 6]])
+
+
+def cells():
+    """Cells of one's own."""
+    return [[3, 1, 2], [0, 5, 1], [4, 4, 4]]
+
+
+def sheet():
+    """A sheet of one's own."""
+    return (cells(), [(0, 0), (0, 1), (1, 0), (1, 1)])
+
+
+def guards():
+    """Guards of one's own, for which the sheet is safe."""
+    return [(0, 1, 0, 2), (1, 1, 3, 0)]
+
+
+def table_of_measures(*things):
+    return table_of(*things, what="measure")
+
+
+def layers_of_measures(*things):
+    return layers(*things, what="measure")
 
 
 TEXT_CALLS = (
@@ -119,6 +151,69 @@ WEIGHING_CALLS = (
     (bar_judged, lambda: (PLAN, book(), not_met(), [(1, 1)] * 3)),
 )
 
+TABLE_CALLS = (
+    (table_wrong, lambda: (table(),)),
+    (table_wrong, lambda: ((["n"], ["y"], [[True]]),)),
+    (totals, lambda: (table(),)),
+    (turned_table, lambda: (table(),)),
+    (added, lambda: ([table()],)),
+    (added, lambda: ([table(), table()],)),
+    (put_together, lambda: (table(), [[1], [0]], [[0, 2], [1]])),
+    (put_together, lambda: (table(), [[0], [1]], [[0], [1], [2]])),
+    (table_of, lambda: (PLAN, book(), 0, 1)),
+    (table_of, lambda: (PLAN, [], 1, 0)),
+    (table_of_measures, lambda: (PLAN, book(), 0, 1)),
+    (weighed_cells, lambda: (PLAN, book(), 0, 1, [(1, 2)] * 5)),
+    (weighed_cells, lambda: (PLAN, [], 0, 1, [])),
+    (layers, lambda: (PLAN, book(), 0, 1, 2)),
+    (layers_of_measures, lambda: (PLAN, book(), 2, 1, 0)),
+)
+
+SHEET_CALLS = (
+    (sheet_wrong, lambda: (sheet(),)),
+    (sheet_wrong, lambda: ((cells(), [(1, 1), (0, 0)]),)),
+    (world_judged, lambda: (sheet(), cells())),
+    (world_judged, lambda: (sheet(), [[2, 2, 2], [0, 5, 1], [4, 4, 4]])),
+    (span, lambda: (sheet(), (1, 1))),
+    (spans, lambda: (sheet(),)),
+    (spans, lambda: ((cells(), []),)),
+    (span_paper, lambda: (sheet(), (0, 0))),
+    (span_paper, lambda: (sheet(), (1, 1))),
+    (span_paper, lambda: (([[7]], [(0, 0)]), (0, 0))),
+    (span_judged, lambda: (sheet(), (1, 1), span_paper(sheet(), (1, 1)))),
+    (span_judged, lambda: (sheet(), (0, 1), span_paper(sheet(), (1, 1)))),
+    (safe_wrong, lambda: (sheet(), guards())),
+    (safe_wrong, lambda: (sheet(), [(0, 0, 1, 1)])),
+    (safe_paper, lambda: (sheet(), guards())),
+    (safe_paper, lambda: (sheet(), [(0, 0, 1, 1)])),
+    (safe_judged, lambda: (sheet(), guards(), safe_paper(sheet(), guards()))),
+    (safe_judged, lambda: (sheet(), guards(), [(cells(), cells()), (cells(), cells())])),
+    (pattern, lambda: (cells(), guards())),
+    (pattern, lambda: (cells(), [])),
+    (pattern, lambda: (cells(), [(0, 0, 9, 9)])),
+    (fewest, lambda: (cells(), guards())),
+    (fewest, lambda: (cells(), [])),
+    (fewest, lambda: ([[0] * 6 for _ in range(2)], [(0, 0, 9, 9)])),
+)
+
 # Whatever stands in an argument's place of these is refused or judged: it never fails in another way.
-ANYTHING_CALLS = FIRST_CALLS + MENDING_CALLS + WEIGHING_CALLS
+ANYTHING_CALLS = FIRST_CALLS + MENDING_CALLS + WEIGHING_CALLS + TABLE_CALLS + SHEET_CALLS
 CALLS = ANYTHING_CALLS + TEXT_CALLS
+
+LABELS = ["a", "b"]
+ROW = [2, 2]
+SHARED_TABLE = (LABELS, LABELS, [ROW, ROW])
+SHARED_SHEET = ([ROW, ROW], [(0, 0), (0, 1), (1, 0), (1, 1)])
+
+# In what is handed in here the same list stands at several places.
+SHARED_CALLS = (
+    (turned_table, (SHARED_TABLE,)),
+    (totals, (SHARED_TABLE,)),
+    (added, ([SHARED_TABLE] * 3,)),
+    (put_together, (SHARED_TABLE, [[0], [1]], [[0], [1]])),
+    (spans, (SHARED_SHEET,)),
+    (span_paper, (SHARED_SHEET, (0, 0))),
+    (safe_paper, (SHARED_SHEET, [(0, 0, 1, 1), (0, 1, 1, 1)])),
+    (pattern, ([ROW, ROW], [(0, 0, 1, 1)])),
+    (fewest, ([ROW, ROW], [(0, 0, 1, 1)])),
+)

@@ -43,8 +43,37 @@ FUNCTIONS = {
         "weights_barred": ["plan", "book", "known"],
         "bar_judged": ["plan", "book", "known", "thing"],
     },
+    "tables": {
+        "table_wrong": ["thing"],
+        "totals": ["table"],
+        "turned_table": ["table"],
+        "added": ["tables"],
+        "put_together": ["table", "row_lots", "column_lots"],
+    },
+    "counting": {
+        "table_of": ["plan", "book", "row", "column", "what"],
+        "weighed_cells": ["plan", "book", "row", "column", "weights"],
+        "layers": ["plan", "book", "layer", "row", "column", "what"],
+    },
+    "spans": {
+        "sheet_wrong": ["thing"],
+        "world_judged": ["sheet", "thing"],
+        "span": ["sheet", "place"],
+        "spans": ["sheet"],
+        "span_paper": ["sheet", "place"],
+        "span_judged": ["sheet", "place", "paper"],
+    },
+    "patterns": {
+        "safe_wrong": ["sheet", "guards"],
+        "safe_paper": ["sheet", "guards"],
+        "safe_judged": ["sheet", "guards", "thing"],
+        "pattern": ["cells", "guards"],
+        "fewest": ["cells", "guards"],
+    },
 }
-CONSTANTS = {"rules": {"MOST_RULES": 20}}
+# Arguments that are handed in by their names alone, with what they are where they are left out.
+NAMED = {"what": "count"}
+CONSTANTS = {"rules": {"MOST_RULES": 20}, "tables": {"MOST_CELL": 10 ** 9}}
 
 
 class Interface(unittest.TestCase):
@@ -55,8 +84,10 @@ class Interface(unittest.TestCase):
                 parameters = inspect.signature(getattr(module, function)).parameters
                 self.assertEqual(list(parameters), arguments, function)
                 for parameter in parameters.values():
-                    self.assertEqual(parameter.kind, inspect.Parameter.POSITIONAL_OR_KEYWORD, function)
-                    self.assertIs(parameter.default, inspect.Parameter.empty, function)
+                    named = parameter.name in NAMED
+                    kind = inspect.Parameter.KEYWORD_ONLY if named else inspect.Parameter.POSITIONAL_OR_KEYWORD
+                    self.assertEqual(parameter.kind, kind, function)
+                    self.assertEqual(parameter.default, NAMED.get(parameter.name, inspect.Parameter.empty), function)
 
     def test_numbers(self):
         for name, constants in CONSTANTS.items():

@@ -5,7 +5,7 @@ import unittest
 from countveil.errors import NoText
 from countveil.kinds import is_whole
 from countveil.texts import read_book, read_plan, read_record
-from tests.calls import ANYTHING_CALLS, CALLS
+from tests.calls import ANYTHING_CALLS, CALLS, SHARED_CALLS
 from tests.samples import ANYTHING, PLAN, holds_truth, lists_in, refusal, refused_with, spoil, unchanged
 
 
@@ -66,6 +66,15 @@ class EveryCall(unittest.TestCase):
             one, other = call(*handed), call(*handed)
             lists = [*lists_in(one), *lists_in(other), *lists_in(handed)]
             self.assertEqual(len({id(each) for each in lists}), len(lists), call)
+
+    def test_each_told_list_is_new_where_handed_ones_are_shared(self):
+        for call, handed in SHARED_CALLS:
+            ahead = repr(handed)
+            told = lists_in(call(*handed))
+            self.assertGreater(len(told), 0, call)
+            self.assertEqual(len({id(each) for each in told}), len(told), call)
+            self.assertFalse({id(each) for each in told} & {id(each) for each in lists_in(handed)}, call)
+            self.assertEqual(repr(handed), ahead, call)
 
     def test_changing_what_was_handed_in_changes_no_answer_told(self):
         for call, things in CALLS:
