@@ -40,22 +40,22 @@ def first_told(sheet, guards):
     return None
 
 
-def lowest_let(sheet, guard):
-    """The number that a guard lets be the least at its place: the cell's worth less below."""
+def low_asked(sheet, guard):
+    """The number at which a guard asks its span to begin, or lower: the cell's worth less below."""
     return at_place(sheet[0], guard[:2]) - guard[2]
 
 
-def highest_let(sheet, guard):
-    """The number that a guard lets be the greatest at its place: the cell's worth and above."""
+def high_asked(sheet, guard):
+    """The number at which a guard asks its span to end, or higher: the cell's worth and above."""
     return at_place(sheet[0], guard[:2]) + guard[3]
 
 
 def wrong_in_span(sheet, n, guard):
     """What safe_wrong tells of the n-th guard, whose place is hidden."""
     least, greatest = span_at(sheet, guard[:2])
-    if least > lowest_let(sheet, guard):
+    if least > low_asked(sheet, guard):
         return ("low", n, least)
-    if greatest < highest_let(sheet, guard):
+    if greatest < high_asked(sheet, guard):
         return ("high", n, greatest)
     return None
 
@@ -85,12 +85,12 @@ def high_world_for(sheet, guard):
 
 def is_low_enough(sheet, guard, world):
     """Whether the world has as little at the guard's place as it asks."""
-    return at_place(world, guard[:2]) <= lowest_let(sheet, guard)
+    return at_place(world, guard[:2]) <= low_asked(sheet, guard)
 
 
 def is_high_enough(sheet, guard, world):
     """Whether the world has as much at the guard's place as it asks."""
-    return at_place(world, guard[:2]) >= highest_let(sheet, guard)
+    return at_place(world, guard[:2]) >= high_asked(sheet, guard)
 
 
 def is_guarded(sheet, guard):
