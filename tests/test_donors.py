@@ -5,10 +5,11 @@ import unittest
 
 from countveil.donors import filled, fillings, fillings_judged
 from countveil.errors import NoBook, NoCosts, NoPlan, NoRight, NoRules
-from countveil.mends import mend
 from countveil.records import book_wrong
 from countveil.rules import barred_by
-from tests.drawing import barring_all, bent, draw_book, draw_costs, draw_plan, draw_rule, draw_rules, is_right, plan_of
+from tests.drawing import (
+    barring_all, bent, draw_book, draw_costs, draw_plan, draw_rule, draw_rules, full_codes, is_right, plan_of,
+)
 from tests.samples import ANYTHING, PLAN, PLANS, SMALL, refused_with
 
 RULES = [(("f",), ("old",), None)]
@@ -24,11 +25,17 @@ def patched(record, giver, sorts):
     return tuple(giver[s] if s in sorts else record[s] for s in range(len(record)))
 
 
-def second_filling(plan, rules, costs, book, record):
+def right_ones(plan, rules):
+    """All right codes, in order."""
+    return [codes for codes in full_codes(plan) if is_right(rules, codes)]
+
+
+def second_filling(plan, rules, costs, book, record, rights):
     """The filling of a record, and what it makes, by going on from the nearest giver of all."""
     if gives(rules, record):
         return ("own",), record
-    mended = mend(plan, rules, costs, record)[1]
+    prices = [sum(costs[s] for s in range(len(plan)) if codes[s] != record[s]) for codes in rights]
+    mended = (*rights[prices.index(min(prices))], record[-1])
     sorts = {s for s in range(len(plan)) if mended[s] != record[s]}
     by_nearness = sorted(
         (i for i, giver in enumerate(book) if gives(rules, giver)),
@@ -51,7 +58,7 @@ def draw_case(chance, many=12):
         plan = draw_plan(chance, 4, 3)
         rules = draw_rules(chance, plan, chance.choice((1, 3, 6)))
         costs = draw_costs(chance, plan)
-        if mend(plan, rules, costs, (None,) * len(plan) + (0,))[0] is not None:
+        if right_ones(plan, rules):
             return plan, rules, costs, draw_book(chance, plan, chance.randint(0, many), 0.2)
 
 
@@ -74,7 +81,8 @@ class Fillings(unittest.TestCase):
         seen = {}
         for _ in range(1500):
             plan, rules, costs, book = draw_case(chance)
-            both = [second_filling(plan, rules, costs, book, record) for record in book]
+            rights = right_ones(plan, rules)
+            both = [second_filling(plan, rules, costs, book, record, rights) for record in book]
             self.assertEqual(fillings(plan, rules, costs, book), [filling for filling, record in both])
             self.assertEqual(filled(plan, rules, costs, book), [record for filling, record in both])
             for filling, record in both:
@@ -159,11 +167,12 @@ class Fillings(unittest.TestCase):
         for _ in range(3):
             rules = [draw_rule(chance, plan) for _ in range(20)]
             costs = draw_costs(chance, plan, 1000)
-            if mend(plan, rules, costs, (None, None, None, None, 0))[0] is None:
-                rules = rules[:5]
+            while not right_ones(plan, rules):
+                rules = rules[1:]
+            rights = right_ones(plan, rules)
             book = draw_book(chance, plan, 60, 0.2, 10 ** 6)
             told = fillings(plan, rules, costs, book)
-            self.assertEqual(told, [second_filling(plan, rules, costs, book, record)[0] for record in book])
+            self.assertEqual(told, [second_filling(plan, rules, costs, book, record, rights)[0] for record in book])
 
     def test_a_book_without_records(self):
         for plan in PLANS:
