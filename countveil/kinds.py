@@ -38,6 +38,21 @@ def are_whole_numbers(thing):
     return isinstance(thing, list) and all(is_whole(number) for number in thing)
 
 
+def are_rising_below(numbers, many):
+    """Whether the whole numbers rise, none twice, from 0 on, below many."""
+    return all(0 <= number < many for number in numbers) and numbers == sorted(set(numbers))
+
+
 def is_list_of_pairs(thing):
     """Whether it is a list of tuples of two."""
     return isinstance(thing, list) and all(is_tuple_of(pair, 2) for pair in thing)
+
+
+def is_line_of_numbers(thing, many):
+    """Whether it is a list of so many whole numbers from 0 on."""
+    return is_list_of(thing, many) and all(is_whole(number) and number >= 0 for number in thing)
+
+
+def is_grid(thing, height, width):
+    """Whether it is a list of so many lists of so many whole numbers from 0 on."""
+    return is_list_of(thing, height) and all(is_line_of_numbers(line, width) for line in thing)

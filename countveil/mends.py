@@ -3,7 +3,7 @@
 from countveil.errors import NoCosts
 from countveil.kinds import is_tuple_of, is_whole, is_whole_within
 from countveil.plans import need_plan
-from countveil.records import is_full, is_record, need_record
+from countveil.records import is_full, is_record, need_record, with_thing
 from countveil.rules import bars, first_barring, is_right, need_rules, right_codes
 
 LEAST_COST = 1
@@ -38,11 +38,6 @@ def come_to(costs, known, record, cost):
     return cost is not None and cost_beside(costs, known, record) >= cost
 
 
-def with_code(known, s, code):
-    """The known codes, and the code at sort s."""
-    return (*known[:s], code, *known[s + 1:])
-
-
 def nothing_known(plan):
     """None for each sort."""
     return (None,) * len(plan)
@@ -58,7 +53,7 @@ def tree_for(plan, rules, costs, record, cost):
         if k is not None:
             return ("barred", k)
         s = known.index(None)
-        return ("sort", s, [grown(with_code(known, s, code)) for code in plan[s][1]])
+        return ("sort", s, [grown(with_thing(known, s, code)) for code in plan[s][1]])
 
     return grown(nothing_known(plan))
 
@@ -125,7 +120,7 @@ def first_wrong_tree(plan, rules, costs, record, cost, whole):
             return None
         s, trees = tree[1:]
         for n, code in enumerate(plan[s][1]):
-            wrong = first_wrong(with_code(known, s, code), trees[n], (*path, n))
+            wrong = first_wrong(with_thing(known, s, code), trees[n], (*path, n))
             if wrong is not None:
                 return wrong
         return None

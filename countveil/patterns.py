@@ -3,6 +3,7 @@
 from countveil.errors import NoGuards, TooGreat
 from countveil.kinds import is_list_of_pairs, is_tuple_of, is_whole
 from countveil.spans import at_place, highest_world, is_place, lowest_world, need_sheet, span_at, wrong_in_world
+from countveil.tables import all_places
 
 MOST_GUARDS = 8
 MOST_CELLS_FOR_FEWEST = 16
@@ -138,11 +139,6 @@ def safe_judged(sheet, guards, thing):
         if wrong is not None:
             return wrong
     return None
-
-
-def all_places(cells):
-    """All places of the cells, in order."""
-    return [(i, k) for i, row in enumerate(cells) for k in range(len(row))]
 
 
 def least_pattern(cells, guards):

@@ -3,6 +3,7 @@
 from countveil.kinds import is_list_of, is_tuple_of, is_whole
 
 NOUGHT = (0, 1)
+ONE = (1, 1)
 
 
 def greatest_divisor(one, other):
@@ -46,3 +47,18 @@ def sum_of(fractions):
 def mixed(fractions, numbers):
     """What the whole numbers, each times its fraction, come to."""
     return sum_of([fraction(top * number, bottom) for (top, bottom), number in zip(fractions, numbers)])
+
+
+def less(one, other):
+    """The one fraction less the other."""
+    return mixed([one, other], [1, -1])
+
+
+def times(one, other):
+    """The one fraction times the other."""
+    return fraction(one[0] * other[0], one[1] * other[1])
+
+
+def mean_of(fractions):
+    """The mean of a list of one or more fractions."""
+    return times(sum_of(fractions), (1, len(fractions)))

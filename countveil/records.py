@@ -38,6 +38,31 @@ def is_full(record):
     return None not in record
 
 
+def with_thing(things, place, thing):
+    """The tuple with the thing at the place instead of what stands there."""
+    return (*things[:place], thing, *things[place + 1:])
+
+
+def is_thing_place(plan, thing):
+    """Whether it is a place of a record's things: a sort's number, or the number of sorts, for the measure."""
+    return is_whole_within(thing, 0, len(plan))
+
+
+def is_number_in(book, thing):
+    """Whether it is the number of a record of the book."""
+    return is_whole_within(thing, 0, len(book) - 1)
+
+
+def without_record(book, number):
+    """The book without the record of that number."""
+    return [*book[:number], *book[number + 1:]]
+
+
+def with_record_at(book, number, record):
+    """The book with the record instead of the one of that number."""
+    return [*book[:number], record, *book[number + 1:]]
+
+
 def wrong_in_book(plan, thing):
     """What book_wrong tells, of what is known to be a plan."""
     if not isinstance(thing, list) or len(thing) > MOST_RECORDS:

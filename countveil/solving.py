@@ -50,6 +50,13 @@ def eliminated(rows, many):
     return (leading, left)
 
 
+def what_is_left(row, leading):
+    """The row with all leading columns cleared: only 0 just where it is a mixture of the leading rows."""
+    for column, pivot in leading:
+        row = cleared(row, pivot, column)
+    return row
+
+
 def with_origin(rows, sides):
     """Each row with its side behind it, and behind that by which numbers the first rows are mixed in it."""
     many = len(rows)

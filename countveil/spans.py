@@ -1,19 +1,9 @@
 """Sheets with hidden cells: their worlds, and how far each hidden cell is spanned, with papers for both ends."""
 
 from countveil.errors import NoPlace, NoSheet
-from countveil.kinds import are_whole_numbers, is_list_of, is_tuple_of, is_whole
+from countveil.kinds import are_rising_below, are_whole_numbers, is_grid, is_tuple_of, is_whole
 from countveil.shifts import lines_not_reached, shifted
 from countveil.tables import MOST_CELL, MOST_LABELS, column_sums, row_sums
-
-
-def is_line_of_numbers(thing, many):
-    """Whether it is a list of so many whole numbers from 0 on."""
-    return is_list_of(thing, many) and all(is_whole(number) and number >= 0 for number in thing)
-
-
-def is_grid(thing, height, width):
-    """Whether it is a list of so many lists of so many whole numbers from 0 on."""
-    return is_list_of(thing, height) and all(is_line_of_numbers(line, width) for line in thing)
 
 
 def is_list_of_one_to_six(thing):
@@ -169,11 +159,6 @@ def is_paper_by_form(thing):
         return False
     low, high, floor, lid = thing
     return are_two_lists_of_numbers(lid) and (floor is None or are_two_lists_of_numbers(floor))
-
-
-def are_rising_below(numbers, many):
-    """Whether the whole numbers rise, none twice, from 0 on, below many."""
-    return all(0 <= number < many for number in numbers) and numbers == sorted(set(numbers))
 
 
 def are_lines(cells, lines):

@@ -61,6 +61,11 @@ def column_sums(cells):
     return row_sums(turned(cells))
 
 
+def all_places(cells):
+    """All places of the cells, in order."""
+    return [(i, k) for i, row in enumerate(cells) for k in range(len(row))]
+
+
 def totals(table):
     """The totals of rows, those of columns, and that of all."""
     need_table(table)

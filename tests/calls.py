@@ -6,7 +6,11 @@ from countveil.mends import mend, mend_judged
 from countveil.patterns import fewest, pattern, safe_judged, safe_paper, safe_wrong
 from countveil.plans import plan_wrong
 from countveil.records import book_wrong, fitting, gaps, record_wrong, tallies
+from countveil.releases import all_fixed, fixed, fixed_judged, release_wrong
+from countveil.revised import books_of, figure_of, figures, history_wrong, roots, split
+from countveil.roundings import nearest, nearest_judged, rounding_wrong
 from countveil.rules import barred_by, rules_wrong
+from countveil.seasons import adjusted, left_over, seasons, seasons_judged, trend, with_pattern, year_sums
 from countveil.spans import sheet_wrong, span, span_judged, span_paper, spans, world_judged
 from countveil.tables import added, put_together, table_wrong, totals, turned_table
 from countveil.texts import book_text, plan_text, read_book, read_plan, read_record, record_text
@@ -67,6 +71,38 @@ def sheet():
 def guards():
     """Guards of one's own, for which the sheet is safe."""
     return [(0, 1, 0, 2), (1, 1, 3, 0)]
+
+
+def rounding():
+    """A rounding of the table to 5, of one's own."""
+    return (["n", "s"], ["old", "mid", "y"], [[0, 0, 5], [5, 5, 5]])
+
+
+def release():
+    """A release of one's own."""
+    return [([0, 1], 5), ([1, 2], 7), ([0, 2], 4)]
+
+
+def clashing():
+    """A release of one's own, of no numbers at all."""
+    return [([0, 1], 5), ([0, 1], 6)]
+
+
+def history():
+    """A history of one's own."""
+    return [
+        [("add", RECORD), ("add", GAPS_ALL)],
+        [],
+        [("fix", 1, 1, "y"), ("add", ("m", "y", None, 5)), ("drop", 0), ("fix", 0, 3, 12)],
+    ]
+
+
+FIGURE = ((None, "y", None), "measure")
+
+
+def series():
+    """A series of one's own."""
+    return [3, 5, 1, 7, 4, 6, 2, 9, 5]
 
 
 def table_of_measures(*things):
@@ -196,13 +232,70 @@ SHEET_CALLS = (
     (fewest, lambda: ([[0] * 6 for _ in range(2)], [(0, 0, 9, 9)])),
 )
 
+ROUNDING_CALLS = (
+    (rounding_wrong, lambda: (table(), 5, rounding())),
+    (rounding_wrong, lambda: (table(), 5, table())),
+    (rounding_wrong, lambda: (table(), 2, rounding())),
+    (nearest, lambda: (table(), 5)),
+    (nearest, lambda: (table(), 1000)),
+    (nearest, lambda: ((["a"], ["b"], [[4]]), 2)),
+    (nearest_judged, lambda: (table(), 5, nearest(table(), 5))),
+    (nearest_judged, lambda: (table(), 5, (rounding(), 1, ([0, 0], [0, 0, 0], 0)))),
+    (nearest_judged, lambda: (table(), 5, (rounding(), 19, ([0, 90], [0, 0, 0], 0)))),
+)
+
+RELEASE_CALLS = (
+    (release_wrong, lambda: (3, release())),
+    (release_wrong, lambda: (2, release())),
+    (fixed, lambda: (3, release(), [0, 1, 2])),
+    (fixed, lambda: (4, release(), [3])),
+    (fixed, lambda: (2, clashing(), [0])),
+    (fixed_judged, lambda: (3, release(), [0, 1, 2], fixed(3, release(), [0, 1, 2]))),
+    (fixed_judged, lambda: (4, release(), [3], fixed(4, release(), [3]))),
+    (fixed_judged, lambda: (2, clashing(), [0], fixed(2, clashing(), [0]))),
+    (fixed_judged, lambda: (3, release(), [0], ("free", [(1, 1), (0, 1), (0, 1)]))),
+    (all_fixed, lambda: (4, release(), [[0], [3], [0, 1, 2]])),
+    (all_fixed, lambda: (4, [], [])),
+)
+
+REVISED_CALLS = (
+    (figure_of, lambda: (PLAN, book(), FIGURE)),
+    (history_wrong, lambda: (PLAN, history())),
+    (history_wrong, lambda: (PLAN, [[], [("drop", 0)]])),
+    (books_of, lambda: (PLAN, history())),
+    (books_of, lambda: (PLAN, [])),
+    (figures, lambda: (PLAN, history(), FIGURE)),
+    (split, lambda: (PLAN, history(), FIGURE, 0, 3)),
+    (split, lambda: (PLAN, history(), FIGURE, 1, 1)),
+    (roots, lambda: (PLAN, history(), 3)),
+    (roots, lambda: (PLAN, history(), 0)),
+)
+
+SEASON_CALLS = (
+    (trend, lambda: (series(), 4)),
+    (trend, lambda: (series(), 3)),
+    (seasons, lambda: (series(), 4)),
+    (adjusted, lambda: (series(), 4)),
+    (left_over, lambda: (series(), 4)),
+    (year_sums, lambda: (series(), 4)),
+    (with_pattern, lambda: (series(), 2, [5, -5])),
+    (with_pattern, lambda: (series(), 2, [0, 0])),
+    (seasons_judged, lambda: (series(), 4, seasons(series(), 4))),
+    (seasons_judged, lambda: (series(), 4, [(0, 1)] * 4)),
+    (seasons_judged, lambda: (series(), 4, [(1, 1)] * 4)),
+)
+
 # Whatever stands in an argument's place of these is refused or judged: it never fails in another way.
-ANYTHING_CALLS = FIRST_CALLS + MENDING_CALLS + WEIGHING_CALLS + TABLE_CALLS + SHEET_CALLS
+ANYTHING_CALLS = (
+    FIRST_CALLS + MENDING_CALLS + WEIGHING_CALLS + TABLE_CALLS + SHEET_CALLS + ROUNDING_CALLS + RELEASE_CALLS
+    + REVISED_CALLS + SEASON_CALLS
+)
 CALLS = ANYTHING_CALLS + TEXT_CALLS
 
 LABELS = ["a", "b"]
 ROW = [2, 2]
 SHARED_TABLE = (LABELS, LABELS, [ROW, ROW])
+STEP = [("add", ("f", "y", None, 4)), ("add", ("f", "y", None, 4)), ("fix", 0, 3, 9)]
 SHARED_SHEET = ([ROW, ROW], [(0, 0), (0, 1), (1, 0), (1, 1)])
 
 # In what is handed in here the same list stands at several places.
@@ -216,4 +309,10 @@ SHARED_CALLS = (
     (safe_paper, (SHARED_SHEET, [(0, 0, 1, 1), (0, 1, 1, 1)])),
     (pattern, ([ROW, ROW], [(0, 0, 1, 1)])),
     (fewest, ([ROW, ROW], [(0, 0, 1, 1)])),
+    (nearest, (SHARED_TABLE, 5)),
+    (fixed, (3, [([0, 1], 2), (ROW[:1], 1)], [0])),
+    (all_fixed, (3, [([0, 1], 2), (ROW[:1], 1)], [[0], [2]])),
+    (books_of, (PLAN, [STEP, STEP, []])),
+    (roots, (PLAN, [STEP, STEP, []], 3)),
+    (split, (PLAN, [STEP, STEP, []], FIGURE, 0, 3)),
 )

@@ -1,4 +1,4 @@
-"""Plans, rules, costs, records and books drawn by chance, the same ones each time; and things bent by chance."""
+"""Plans, rules, costs, records, books and tables drawn by chance, the same ones each time; and things bent by chance."""
 
 import itertools
 
@@ -53,6 +53,13 @@ def draw_record(chance, plan, gap=0.25, most=9):
 def draw_book(chance, plan, many, gap=0.25, most=9):
     """A book of so many records."""
     return [draw_record(chance, plan, gap, most) for _ in range(many)]
+
+
+def draw_table(chance, most=9, height=None, width=None):
+    """A table of one to six rows and columns."""
+    rows = chance.sample(CODES, height or chance.randint(1, 6))
+    columns = chance.sample(CODES, width or chance.randint(1, 6))
+    return (rows, columns, [[chance.choice((0, chance.randint(0, most))) for _ in columns] for _ in rows])
 
 
 def full_codes(plan):

@@ -70,10 +70,42 @@ FUNCTIONS = {
         "pattern": ["cells", "guards"],
         "fewest": ["cells", "guards"],
     },
+    "roundings": {
+        "rounding_wrong": ["table", "base", "thing"],
+        "nearest": ["table", "base"],
+        "nearest_judged": ["table", "base", "thing"],
+    },
+    "releases": {
+        "release_wrong": ["cells", "thing"],
+        "fixed": ["cells", "release", "figure"],
+        "fixed_judged": ["cells", "release", "figure", "thing"],
+        "all_fixed": ["cells", "release", "figures"],
+    },
+    "revised": {
+        "figure_of": ["plan", "book", "figure"],
+        "history_wrong": ["plan", "thing"],
+        "books_of": ["plan", "history"],
+        "figures": ["plan", "history", "figure"],
+        "split": ["plan", "history", "figure", "one", "other"],
+        "roots": ["plan", "history", "many"],
+    },
+    "seasons": {
+        "trend": ["series", "year"],
+        "seasons": ["series", "year"],
+        "adjusted": ["series", "year"],
+        "left_over": ["series", "year"],
+        "year_sums": ["series", "year"],
+        "with_pattern": ["series", "year", "pattern"],
+        "seasons_judged": ["series", "year", "thing"],
+    },
 }
 # Arguments that are handed in by their names alone, with what they are where they are left out.
 NAMED = {"what": "count"}
-CONSTANTS = {"rules": {"MOST_RULES": 20}, "tables": {"MOST_CELL": 10 ** 9}}
+CONSTANTS = {
+    "rules": {"MOST_RULES": 20},
+    "tables": {"MOST_CELL": 10 ** 9},
+    "releases": {"MOST_FINE": 36, "MOST_PUBLISHED": 40},
+}
 
 
 class Interface(unittest.TestCase):

@@ -5,7 +5,7 @@ import unittest
 
 from countveil.errors import NoLots, NoTable, NoTables, TooGreat
 from countveil.tables import MOST_CELL, added, put_together, table_wrong, totals, turned_table
-from tests.drawing import CODES, bent
+from tests.drawing import bent, draw_table
 from tests.samples import ANYTHING, refused_with
 
 TABLE = (["n", "s"], ["old", "mid", "y"], [[1, 2, 3], [40, 50, 60]])
@@ -20,13 +20,6 @@ NO_LABELS = (
     ["n", "abcde"], ["n", "S"], ["n", "s "], ["n", "-"], ["n", ("s",)], ["n", ["s"]], [["n"], ["n"]],
     ["a", "b", "c", "d", "e", "f", "g"], ["n", "s\n"], ["n", ""],
 )
-
-
-def draw_table(chance, most=9, height=None, width=None):
-    """A table of one to six rows and columns."""
-    rows = chance.sample(CODES, height or chance.randint(1, 6))
-    columns = chance.sample(CODES, width or chance.randint(1, 6))
-    return (rows, columns, [[chance.choice((0, chance.randint(0, most))) for _ in columns] for _ in rows])
 
 
 def draw_lots(chance, many):
