@@ -16,6 +16,11 @@ def is_small_letter(sign):
     return "a" <= sign <= "z"
 
 
+def is_figure_sign(sign):
+    """Whether a text of one sign is one of the figures from 0 to 9."""
+    return "0" <= sign <= "9"
+
+
 def is_word(thing, most):
     """Whether it is a text of one to most small letters."""
     if not isinstance(thing, str) or not 1 <= len(thing) <= most:

@@ -5,7 +5,7 @@ at its beginning are the beginning of some such line.
 """
 
 from countveil.errors import NoText
-from countveil.kinds import is_small_letter
+from countveil.kinds import is_figure_sign, is_small_letter
 from countveil.plans import LEAST_CODES, MOST_CODE, MOST_CODES, MOST_NAME, MOST_SORTS, need_plan
 from countveil.records import MOST_MEASURE, MOST_RECORDS, need_book, need_record
 
@@ -109,7 +109,7 @@ def read_answer(codes, rest):
 
 def is_measure_text(text):
     """Whether a text, all but whose last sign is known to, or is nothing, writes a measure."""
-    if not "0" <= text[-1] <= "9":
+    if not is_figure_sign(text[-1]):
         return False
     if text[0] == "0":
         return len(text) == 1

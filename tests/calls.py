@@ -2,7 +2,9 @@
 
 from countveil.counting import layers, table_of, weighed_cells
 from countveil.donors import filled, fillings, fillings_judged
+from countveil.markets import chained, chained_parts, market_wrong, number, parts
 from countveil.mends import mend, mend_judged
+from countveil.papertexts import paper_text, read_paper
 from countveil.patterns import fewest, pattern, safe_judged, safe_paper, safe_wrong
 from countveil.plans import plan_wrong
 from countveil.records import book_wrong, fitting, gaps, record_wrong, tallies
@@ -105,6 +107,16 @@ def series():
     return [3, 5, 1, 7, 4, 6, 2, 9, 5]
 
 
+def market():
+    """A market of one's own."""
+    return (("bread", "milk"), [[2, 3], [4, 3], [4, 6]], [[1, 1], [2, 5], [0, 3]])
+
+
+def paper():
+    """A thing of every kind."""
+    return (None, True, [False, -7, "", "none"], {"b": [1], "a": {"x y": (), "": []}, "no": "a\"^\n"})
+
+
 def table_of_measures(*things):
     return table_of(*things, what="measure")
 
@@ -114,6 +126,8 @@ def layers_of_measures(*things):
 
 
 TEXT_CALLS = (
+    (read_paper, lambda: ("7",)),
+    (read_paper, lambda: ('([] [[]] {a:[] "b c":{}} (none "" a))',)),
     (read_plan, lambda: (plan_text(PLAN),)),
     (read_record, lambda: (PLAN, "f - n 1")),
     (read_book, lambda: (PLAN, "f - n 1\n- - - 0")),
@@ -285,10 +299,27 @@ SEASON_CALLS = (
     (seasons_judged, lambda: (series(), 4, [(1, 1)] * 4)),
 )
 
+MARKET_CALLS = (
+    (market_wrong, lambda: (market(),)),
+    (market_wrong, lambda: ((("bread",), [[1]], [[0]]),)),
+    (number, lambda: (market(), 0, 2, "old")),
+    (number, lambda: (market(), 2, 0, "new")),
+    (chained, lambda: (market(), 0, 2, "old")),
+    (chained, lambda: (market(), 1, 1, "new")),
+    (parts, lambda: (market(), 0, 2, "old")),
+    (chained_parts, lambda: (market(), 2, 0, "new")),
+    (chained_parts, lambda: (market(), 1, 1, "new")),
+)
+
+PAPER_CALLS = (
+    (paper_text, lambda: (paper(),)),
+    (paper_text, lambda: (7,)),
+)
+
 # Whatever stands in an argument's place of these is refused or judged: it never fails in another way.
 ANYTHING_CALLS = (
     FIRST_CALLS + MENDING_CALLS + WEIGHING_CALLS + TABLE_CALLS + SHEET_CALLS + ROUNDING_CALLS + RELEASE_CALLS
-    + REVISED_CALLS + SEASON_CALLS
+    + REVISED_CALLS + SEASON_CALLS + MARKET_CALLS + PAPER_CALLS
 )
 CALLS = ANYTHING_CALLS + TEXT_CALLS
 

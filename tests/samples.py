@@ -81,15 +81,18 @@ def holds_truth(thing):
 
 
 def lists_in(thing):
-    """All lists in what was told, one for each place at which one stands."""
-    found = [thing] if isinstance(thing, list) else []
-    if isinstance(thing, (tuple, list)):
-        for inner in thing:
+    """All lists and dicts in what was told, one for each place at which one stands."""
+    found = [thing] if isinstance(thing, (list, dict)) else []
+    if isinstance(thing, (tuple, list, dict)):
+        for inner in thing.values() if isinstance(thing, dict) else thing:
             found += lists_in(inner)
     return found
 
 
 def spoil(thing):
-    """Change every list in what was told."""
+    """Change every list and dict in what was told."""
     for inner in lists_in(thing):
-        inner.append("spoiled")
+        if isinstance(inner, dict):
+            inner["spoiled"] = True
+        else:
+            inner.append("spoiled")

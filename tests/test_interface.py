@@ -98,28 +98,81 @@ FUNCTIONS = {
         "with_pattern": ["series", "year", "pattern"],
         "seasons_judged": ["series", "year", "thing"],
     },
+    "markets": {
+        "market_wrong": ["thing"],
+        "number": ["market", "one", "other", "way"],
+        "chained": ["market", "one", "other", "way"],
+        "parts": ["market", "one", "other", "way"],
+        "chained_parts": ["market", "one", "other", "way"],
+    },
+    "papertexts": {"paper_text": ["thing", "deep"], "read_paper": ["text", "deep"]},
+}
+CLASSES = {
+    "houses": {
+        "House": {
+            "begin": ["title", "plan", "rules"],
+            "end": ["title"],
+            "take": ["title", "record"],
+            "drop": ["title", "number"],
+            "fix": ["title", "number", "place", "thing"],
+            "mend": ["title", "number", "costs"],
+            "publish": ["title", "one", "other", "least"],
+            "back": [],
+            "again": [],
+            "deeds": ["rows", "on"],
+            "titles": [],
+            "plan_of": ["title"],
+            "rules_of": ["title"],
+            "book_of": ["title"],
+            "faults": ["title"],
+            "out": ["title"],
+            "published": ["title"],
+            "vintage": ["title"],
+            "revised": ["title", "figure"],
+            "log": [],
+            "__len__": [],
+        },
+    },
+    "desk": {"Desk": {"say": ["text"]}},
 }
 # Arguments that are handed in by their names alone, with what they are where they are left out.
-NAMED = {"what": "count"}
+NAMED = {"what": "count", "deep": 60, "on": False}
 CONSTANTS = {
     "rules": {"MOST_RULES": 20},
     "tables": {"MOST_CELL": 10 ** 9},
     "releases": {"MOST_FINE": 36, "MOST_PUBLISHED": 40},
+    "papertexts": {"MOST_DEEP": 60},
 }
 
 
 class Interface(unittest.TestCase):
+    def look(self, function, arguments):
+        """Look at the names of a function's arguments, and how they are handed in."""
+        parameters = inspect.signature(function).parameters
+        self.assertEqual(list(parameters), arguments, function)
+        for parameter in parameters.values():
+            named = parameter.name in NAMED
+            kind = inspect.Parameter.KEYWORD_ONLY if named else inspect.Parameter.POSITIONAL_OR_KEYWORD
+            self.assertEqual(parameter.kind, kind, function)
+            default = NAMED.get(parameter.name, inspect.Parameter.empty)
+            self.assertEqual((parameter.default.__class__, parameter.default), (default.__class__, default), function)
+
     def test_arguments(self):
         for name, functions in FUNCTIONS.items():
             module = importlib.import_module(f"countveil.{name}")
             for function, arguments in functions.items():
-                parameters = inspect.signature(getattr(module, function)).parameters
-                self.assertEqual(list(parameters), arguments, function)
-                for parameter in parameters.values():
-                    named = parameter.name in NAMED
-                    kind = inspect.Parameter.KEYWORD_ONLY if named else inspect.Parameter.POSITIONAL_OR_KEYWORD
-                    self.assertEqual(parameter.kind, kind, function)
-                    self.assertEqual(parameter.default, NAMED.get(parameter.name, inspect.Parameter.empty), function)
+                self.look(getattr(module, function), arguments)
+
+    def test_classes(self):
+        for name, classes in CLASSES.items():
+            module = importlib.import_module(f"countveil.{name}")
+            text = (PACKAGE / f"{name}.py").read_text()
+            for made, methods in classes.items():
+                self.assertTrue(re.search(rf"^class {made}\b", text, re.MULTILINE), made)
+                self.look(getattr(module, made), [])
+                for method, arguments in methods.items():
+                    self.assertIn(method, vars(getattr(module, made)))
+                    self.look(getattr(getattr(module, made)(), method), arguments)
 
     def test_numbers(self):
         for name, constants in CONSTANTS.items():

@@ -19,7 +19,7 @@ BUILTINS = set(
 METHODS = set(
     "append clear copy count endswith extend find get index insert isalnum isalpha isdigit islower isspace isupper "
     "items join keys ljust lower lstrip partition pop remove replace reverse rfind rjust rpartition rsplit rstrip "
-    "setdefault split splitlines startswith strip update upper values zfill bit_length sort add discard "
+    "setdefault split splitlines startswith strip update upper values zfill bit_length removeprefix add discard "
     "__init__".split()
 )
 SPECIAL = set(
@@ -146,6 +146,29 @@ class Names(unittest.TestCase):
         self.assertEqual(len(written), len(set(written)))
 
 
+class Classes(unittest.TestCase):
+    def test_no_name_is_a_method_and_an_attribute(self):
+        methods, attributes, read = set(), set(), set()
+        for name, node in nodes():
+            if isinstance(node, ast.ClassDef):
+                methods |= {inner.name for inner in node.body if isinstance(inner, ast.FunctionDef)}
+            if isinstance(node, ast.Attribute):
+                (attributes if isinstance(node.ctx, ast.Store) else read).add(node.attr)
+        self.assertFalse(methods & attributes)
+        self.assertFalse(read - methods - attributes - METHODS)
+
+    def test_no_method_twice(self):
+        for name, node in nodes():
+            if isinstance(node, ast.ClassDef):
+                methods = [inner.name for inner in node.body if isinstance(inner, ast.FunctionDef)]
+                self.assertEqual(len(methods), len(set(methods)), node.name)
+
+    def test_len_is_plain(self):
+        for name, node in nodes():
+            if isinstance(node, ast.FunctionDef) and node.name == "__len__":
+                self.assertEqual(ast.unparse(node.body[-1])[:11], "return len(")
+
+
 class Expressions(unittest.TestCase):
     def test_barred_statements_and_signs(self):
         for name, node in nodes():
@@ -199,7 +222,7 @@ class Expressions(unittest.TestCase):
         for name, node in nodes():
             if isinstance(node, ast.arguments):
                 for default in [*node.defaults, *node.kw_defaults]:
-                    self.assertIsInstance(default, (ast.Constant, ast.Name, type(None)), name)
+                    self.assertIsInstance(default, (ast.Constant, ast.Name, ast.Tuple, type(None)), name)
 
     def test_methods(self):
         own = {node.name for name, node in nodes() if isinstance(node, ast.FunctionDef)}

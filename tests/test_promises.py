@@ -1,5 +1,6 @@
 """Point 2: what holds of every call."""
 
+import inspect
 import unittest
 
 from countveil.errors import NoText
@@ -47,6 +48,17 @@ class EveryCall(unittest.TestCase):
                         for behind in ANYTHING:
                             handed[n + 1:] = [behind] * (len(handed) - n - 1)
                             self.assertEqual(refused_with(call, *handed), refused.__class__, (call, n, behind))
+
+    def test_called_by_the_names_of_arguments(self):
+        named = 0
+        for call, things in CALLS:
+            kinds = inspect.signature(call).parameters.values()
+            names = [each.name for each in kinds if each.kind == inspect.Parameter.POSITIONAL_OR_KEYWORD]
+            if call.__module__.startswith("countveil."):
+                backward = dict(reversed(list(zip(names, things(), strict=True))))
+                self.assertEqual(repr(call(**backward)), repr(call(*things())), call)
+                named += 1
+        self.assertGreater(named, 100)
 
     def test_of_the_same_the_same_is_told(self):
         for call, things in CALLS:
