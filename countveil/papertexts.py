@@ -168,25 +168,21 @@ def read_key(text, at, ahead):
     return (key, end + 1)
 
 
-def read_pair(text, at, deep, ahead):
-    """The key and its thing at the place, as a tuple."""
-    key, begin = read_key(text, at, ahead)
-    thing, end = read_thing(text, begin, deep)
-    return ((key, thing), end)
-
-
-def read_many(text, at, read_one):
-    """The things between the sign at the place and the one that closes it; read_one gets those ahead, and a place."""
-    closing = CLOSING[sign_at(text, at)]
-    things = []
+def read_inner(text, at, deep):
+    """Tuples (key, thing) of all between the sign at the place and the one that closes it; key None but in a dict."""
+    opening = sign_at(text, at)
+    found = []
     end = at + 1
-    if sign_at(text, end) == closing:
-        return (things, end + 1)
+    if sign_at(text, end) == CLOSING[opening]:
+        return (found, end + 1)
     while True:
-        thing, end = read_one(things, end)
-        things.append(thing)
-        if sign_at(text, end) == closing:
-            return (things, end + 1)
+        key = None
+        if opening == "{":
+            key, end = read_key(text, end, found)
+        thing, end = read_thing(text, end, deep)
+        found.append((key, thing))
+        if sign_at(text, end) == CLOSING[opening]:
+            return (found, end + 1)
         if sign_at(text, end) != " ":
             raise NoText(0, end)
         end += 1
@@ -196,10 +192,10 @@ def read_container(text, at, deep):
     """The tuple, the list or the dict that is opened at the place."""
     if deep == 0:
         raise NoText(0, at)
+    found, end = read_inner(text, at, deep - 1)
     if sign_at(text, at) == "{":
-        pairs, end = read_many(text, at, lambda ahead, begin: read_pair(text, begin, deep - 1, ahead))
-        return ({key: thing for key, thing in pairs}, end)
-    things, end = read_many(text, at, lambda ahead, begin: read_thing(text, begin, deep - 1))
+        return ({key: thing for key, thing in found}, end)
+    things = [thing for key, thing in found]
     return (tuple(things) if sign_at(text, at) == "(" else things, end)
 
 
